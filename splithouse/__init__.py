@@ -1,0 +1,1 @@
+"""Splithouse: tables cut into parts by told rules."""

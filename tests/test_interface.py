@@ -1,0 +1,37 @@
+"""The interface: each name with its arguments, as the document lists them."""
+
+import importlib
+import inspect
+import unittest
+
+ARGUMENTS = {
+    "splithouse.sets": {
+        "columns_of": ["some"],
+        "is_within": ["one", "other"],
+        "sets_within": ["some"],
+        "size_of": ["some"],
+        "turned": ["some", "order"],
+        "all_of": ["many"],
+    },
+    "splithouse.books": {
+        "alike": ["one", "other", "some"],
+        "mixed": ["one", "other", "some"],
+        "breach": ["book", "rule"],
+        "keeps": ["book", "rules"],
+        "book_of": ["many", "some"],
+        "seen_on": ["book", "part"],
+        "put_together": ["one", "part", "other", "beside"],
+    },
+}
+
+
+class Interface(unittest.TestCase):
+    def test_arguments(self):
+        for module, functions in ARGUMENTS.items():
+            for name, arguments in functions.items():
+                told = getattr(importlib.import_module(module), name)
+                self.assertEqual(list(inspect.signature(told).parameters), arguments, name)
+
+
+if __name__ == "__main__":
+    unittest.main()
