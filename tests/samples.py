@@ -51,3 +51,61 @@ def plain_together(one, part, other, beside):
             if plain_alike(first, second, part & beside):
                 found.update(plain_seen([plain_mixed(first, second, part)], part | beside))
     return sorted(found)
+
+
+def plain_keeps(book, rules):
+    return not any(plain_breaches(book, rule) for rule in rules)
+
+
+def plain_book(many, some):
+    """The book of point 8."""
+    return sorted({(0,) * many, tuple(int(k in columns(some)) for k in range(many))})
+
+
+def set_keeps(some, rule):
+    """Whether the book of the set keeps the rule, by the words of point 8."""
+    word, left, right = rule[0], columns(rule[1]), columns(rule[2])
+    if left & columns(some):
+        return True
+    if word == "settle":
+        return not right & columns(some)
+    return not right & columns(some) or columns(some) <= right
+
+
+def keeping_sets(many, rules):
+    """The sets whose books keep all the rules."""
+    return [some for some in range(2 ** many) if all(set_keeps(some, rule) for rule in rules)]
+
+
+def plain_follows(many, rules, rule):
+    """Whether each book of a set that keeps the rules keeps the rule."""
+    return all(set_keeps(some, rule) for some in keeping_sets(many, rules))
+
+
+def sample_rules(source, many, most):
+    """Up to so many rules, with few columns at each left, so that they can often be used."""
+    told = []
+    for turn in range(source.randrange(most + 1)):
+        word, left, right = sample_rule(source, many)
+        told.append((word, left & source.randrange(2 ** many), right))
+    return told
+
+
+def mend(book, rule):
+    """The set of rows with one breach of the rule mended: two numbers made one, or the row that is lacking put in."""
+    one, other = plain_breaches(book, rule)[0]
+    if rule[0] == "deal":
+        return book | {plain_mixed(one, other, rule[1] | rule[2])}
+    column = min(k for k in columns(rule[2]) if one[k] != other[k])
+    low, high = sorted((one[column], other[column]))
+    return {row[:column] + (low if row[column] == high else row[column],) + row[column + 1:] for row in book}
+
+
+def keeping_book(book, rules):
+    """A book that keeps the rules, grown out of another one."""
+    grown = set(book)
+    broken = [rule for rule in rules if plain_breaches(grown, rule)]
+    while broken:
+        grown = mend(grown, broken[0])
+        broken = [rule for rule in rules if plain_breaches(grown, rule)]
+    return sorted(grown)

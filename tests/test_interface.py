@@ -22,6 +22,20 @@ ARGUMENTS = {
         "seen_on": ["book", "part"],
         "put_together": ["one", "part", "other", "beside"],
     },
+    "splithouse.unfold": {
+        "can_use": ["rule", "block"],
+        "used": ["rule", "fixed", "blocks", "at"],
+        "unfolded": ["many", "rules", "some"],
+        "walked": ["many", "rules", "some", "steps"],
+    },
+    "splithouse.follows": {
+        "follows": ["many", "rules", "rule"],
+        "is_right": ["many", "rules", "rule", "paper"],
+        "settled": ["many", "rules", "some"],
+    },
+    "splithouse.covers": {
+        "cover": ["many", "rules"],
+    },
 }
 
 

@@ -29,12 +29,21 @@ OUT_NODES = (
     ast.AsyncFunctionDef, ast.AsyncFor, ast.AsyncWith, ast.Await, ast.SetComp, ast.DictComp, ast.GeneratorExp,
     ast.NamedExpr, ast.Starred, ast.AnnAssign, ast.Div, ast.MatMult)
 
+WALKED_AT_ONCE = ("zip", "enumerate", "reversed", "range", "items", "keys", "values")
+
+WALKERS = ("list", "tuple", "dict", "sorted", "sum", "any", "all", "enumerate", "zip", "min", "max")
+
 TWO_UNDERSCORES = ("__init__", "__eq__", "__repr__", "__str__", "__len__")
 
 
 def is_document(node):
     """Whether the statement is a text by itself, as a docstring is."""
     return isinstance(node.value, ast.Constant) and isinstance(node.value.value, str)
+
+
+def called(node):
+    """The name of the function or method that the call calls."""
+    return getattr(node.func, "id", getattr(node.func, "attr", None))
 
 
 class Language(unittest.TestCase):
@@ -107,6 +116,45 @@ class Language(unittest.TestCase):
             self.assertEqual(node.level, 0, place)
             self.assertTrue(node.module.startswith("splithouse."), place)
             self.assertNotIn("*", [alias.name for alias in node.names], place)
+
+    def test_names_are_drawn_from_the_file_that_defines_them(self):
+        for node, place in self.nodes(ast.ImportFrom):
+            tree = self.trees[node.module.removeprefix("splithouse.") + ".py"]
+            defined = {inner.name for inner in tree.body if isinstance(inner, (ast.FunctionDef, ast.ClassDef))}
+            defined |= {inner.targets[0].id for inner in tree.body if isinstance(inner, ast.Assign)}
+            for alias in node.names:
+                self.assertIn(alias.name, defined, place)
+                self.assertIsNone(alias.asname, place)
+
+    def test_no_two_files_draw_from_one_another(self):
+        left = {name.removesuffix(".py"): {node.module.removeprefix("splithouse.") for node in tree.body
+                                           if isinstance(node, ast.ImportFrom)} for name, tree in self.trees.items()}
+        while left:
+            free = [name for name, drawn in left.items() if not drawn & set(left)]
+            self.assertNotEqual(free, [], left)
+            for name in free:
+                del left[name]
+
+    def test_no_parameter_and_no_local_is_called_like_a_name_of_the_top(self):
+        for name, tree in self.trees.items():
+            tops = {alias.name for node in tree.body if isinstance(node, ast.ImportFrom) for alias in node.names}
+            tops |= {node.name for node in tree.body if isinstance(node, (ast.FunctionDef, ast.ClassDef))}
+            for node in ast.walk(tree):
+                if isinstance(node, ast.arg):
+                    self.assertNotIn(node.arg, tops, name)
+                elif isinstance(node, ast.Name) and isinstance(node.ctx, ast.Store):
+                    self.assertNotIn(node.id, tops, name)
+
+    def test_what_is_walked_at_once_is_not_kept(self):
+        walked = set()
+        for node, place in self.nodes(ast.For, ast.comprehension):
+            walked.add(node.iter)
+        for node, place in self.nodes(ast.Call):
+            if isinstance(node.func, ast.Name) and node.func.id in WALKERS or called(node) == "join":
+                walked.update(node.args)
+        for node, place in self.nodes(ast.Call):
+            if called(node) in WALKED_AT_ONCE:
+                self.assertIn(node, walked, place)
 
     def test_names(self):
         for node, place in self.nodes(ast.Name):
