@@ -1,5 +1,6 @@
 """Rows, books and rules for the tests, the same at each run, and the document's own words put as plain checks."""
 
+import itertools
 import random
 
 BIG = 10 ** 60 - 1
@@ -109,3 +110,30 @@ def keeping_book(book, rules):
         grown = mend(grown, broken[0])
         broken = [rule for rule in rules if plain_breaches(grown, rule)]
     return sorted(grown)
+
+
+def all_cuts(many):
+    """Each two parts that have all columns together."""
+    whole = 2 ** many - 1
+    return [(one, other) for one in range(whole + 1) for other in range(whole + 1) if one | other == whole]
+
+
+def sample_cut(source, many):
+    """Two parts that have all columns together, some of them perhaps in both."""
+    one = source.randrange(2 ** many)
+    return one, 2 ** many - 1 - one | one & source.randrange(2 ** many)
+
+
+def put_again(book, parts):
+    """The book cut in the parts, and these put together one after another."""
+    together, seen = plain_seen(book, parts[0]), parts[0]
+    for part in parts[1:]:
+        together = plain_together(together, seen, plain_seen(book, part), part)
+        seen |= part
+    return together
+
+
+def all_books(many):
+    """Each book of rows of noughts and ones."""
+    rows = list(itertools.product((0, 1), repeat=many))
+    return [[row for k, row in enumerate(rows) if chosen & 2 ** k] for chosen in range(2 ** len(rows))]

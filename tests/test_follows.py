@@ -3,8 +3,8 @@
 import itertools
 import unittest
 
-from samples import (keeping_book, keeping_sets, plain_book, plain_follows, plain_keeps, sample_book, sample_rule,
-                     sample_rules, sample_source, set_keeps)
+from samples import (all_books, keeping_book, keeping_sets, plain_book, plain_follows, plain_keeps, sample_book,
+                     sample_rule, sample_rules, sample_source, set_keeps)
 from splithouse.books import book_of, breach, keeps
 from splithouse.follows import follows, is_right, settled
 from splithouse.unfold import unfolded, walked
@@ -114,8 +114,7 @@ class Follows(unittest.TestCase):
 
     def test_by_all_books_of_three_columns(self):
         # A book of a set is one of these, so what each of them keeps follows.
-        rows = list(itertools.product((0, 1), repeat=3))
-        books = [[row for k, row in enumerate(rows) if chosen & 2 ** k] for chosen in range(256)]
+        books = all_books(3)
         kept = {rule: {k for k, book in enumerate(books) if plain_keeps(book, [rule])} for rule in all_rules(3)}
         source = sample_source(23)
         for turn in range(60):

@@ -36,6 +36,16 @@ ARGUMENTS = {
     "splithouse.covers": {
         "cover": ["many", "rules"],
     },
+    "splithouse.keys": {
+        "keys": ["many", "rules"],
+    },
+    "splithouse.cuts": {
+        "cut_in_two": ["many", "rules", "one", "other"],
+    },
+    "splithouse.filled": {
+        "filled": ["many", "rules", "parts"],
+        "is_safe": ["many", "rules", "parts"],
+    },
 }
 
 
