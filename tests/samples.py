@@ -3,6 +3,8 @@
 import itertools
 import random
 
+from splithouse.sets import turned
+
 BIG = 10 ** 60 - 1
 
 
@@ -137,3 +139,12 @@ def all_books(many):
     """Each book of rows of noughts and ones."""
     rows = list(itertools.product((0, 1), repeat=many))
     return [[row for k, row in enumerate(rows) if chosen & 2 ** k] for chosen in range(2 ** len(rows))]
+
+
+def turned_rules(rules, order):
+    """The rules of the columns put in another order."""
+    return [(word, turned(left, order), turned(right, order)) for word, left, right in rules]
+
+
+def sample_order(source, many):
+    return source.sample(range(many), many)

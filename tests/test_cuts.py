@@ -4,11 +4,12 @@ import itertools
 import unittest
 
 from samples import (all_books, all_cuts, columns, keeping_book, plain_book, plain_follows, plain_keeps, put_again,
-                     sample_book, sample_cut, sample_rule, sample_rules, sample_source)
+                     sample_book, sample_cut, sample_order, sample_rule, sample_rules, sample_source, turned_rules)
 from splithouse.books import keeps, put_together, seen_on
 from splithouse.cuts import cut_in_two
 from splithouse.errors import NoCut, SplitError
 from splithouse.follows import follows
+from splithouse.sets import turned
 from splithouse.unfold import unfolded, walked
 
 WORDS = ("settle", "deal")
@@ -183,6 +184,21 @@ class CutInTwo(unittest.TestCase):
             for one, other in all_cuts(3):
                 loses = any(put_again(book, [one, other]) != book for book in keeping)
                 self.assertEqual(cut_in_two(3, rules, one, other)[0], "unsafe" if loses else "safe")
+
+    def test_columns_put_in_another_order(self):
+        source = sample_source(57)
+        for many in range(1, 8):
+            for turn in range(20):
+                rules, order = sample_rules(source, many, 6), sample_order(source, many)
+                one, other = sample_cut(source, many)
+                told = cut_in_two(many, rules, one, other)
+                # Which rule is used, at which block, doesn't hang on the numbers of the columns.
+                if told[0] == "safe":
+                    wanted = ("safe", [(k, turned(block, order)) for k, block in told[1]])
+                else:
+                    wanted = ("unsafe", turned(told[1], order))
+                again = cut_in_two(many, turned_rules(rules, order), turned(one, order), turned(other, order))
+                self.assertEqual(again, wanted)
 
     def test_what_is_handed_in_stays_and_the_told_list_is_new(self):
         rules = [("settle", 1, 2), ("deal", 2, 4)]

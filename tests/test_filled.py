@@ -4,11 +4,12 @@ import itertools
 import unittest
 
 from samples import (all_books, all_cuts, columns, keeping_book, plain_alike, plain_keeps, put_again, sample_book,
-                     sample_cut, sample_rules, sample_source)
+                     sample_cut, sample_order, sample_rules, sample_source, turned_rules)
 from splithouse.books import keeps, put_together, seen_on
 from splithouse.cuts import cut_in_two
 from splithouse.errors import NoCut, SplitError, TooMany
 from splithouse.filled import filled, is_safe
+from splithouse.sets import turned
 
 # Five columns, five parts and five rules; its steps are gone through by hand.
 FIVE = (5, [("settle", 1, 4), ("settle", 2, 4), ("settle", 4, 8), ("settle", 24, 4), ("settle", 20, 1)],
@@ -365,6 +366,15 @@ class IsSafe(unittest.TestCase):
                 self.assertIs(is_safe(many, rules[::-1], parts), wanted)
                 self.assertIs(is_safe(many, rules, parts[::-1]), wanted)
                 self.assertIs(is_safe(many, rules, parts + parts[:1]), wanted)
+
+    def test_columns_put_in_another_order(self):
+        source = sample_source(72)
+        for many in range(1, 8):
+            for turn in range(10):
+                rules, parts = sample_rules(source, many, 12), sample_parts(source, many, 8)
+                order = sample_order(source, many)
+                turned_parts = [turned(part, order) for part in parts]
+                self.assertIs(is_safe(many, turned_rules(rules, order), turned_parts), is_safe(many, rules, parts))
 
     def test_what_is_handed_in_stays(self):
         rules, parts = list(FIVE[1]), list(FIVE[2])

@@ -3,9 +3,11 @@
 import itertools
 import unittest
 
-from samples import columns, keeping_book, keeping_sets, plain_alike, sample_book, sample_rules, sample_source
+from samples import (columns, keeping_book, keeping_sets, plain_alike, sample_book, sample_order, sample_rules,
+                     sample_source, turned_rules)
 from splithouse.follows import follows
 from splithouse.keys import keys
+from splithouse.sets import turned
 
 WORDS = ("settle", "deal")
 
@@ -152,6 +154,14 @@ class Keys(unittest.TestCase):
             for key in keys(4, rules):
                 for one, other in itertools.combinations(book, 2):
                     self.assertFalse(plain_alike(one, other, key))
+
+    def test_columns_put_in_another_order(self):
+        source = sample_source(46)
+        for many in range(1, 8):
+            for turn in range(10):
+                rules, order = sample_rules(source, many, 10), sample_order(source, many)
+                told = keys(many, turned_rules(rules, order))
+                self.assertEqual(sorted(told), sorted(turned(key, order) for key in keys(many, rules)))
 
     def test_what_is_handed_in_stays_and_the_told_list_is_new(self):
         rules = [("settle", 4, 3), ("settle", 3, 4), ("deal", 4, 2)]
