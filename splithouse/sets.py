@@ -26,17 +26,22 @@ def is_within(one, other):
     return (one & other) == one
 
 
-def place_of(some):
-    """What sets are put in order by."""
-    return (size_of(some), some)
+def with_one_more(sets, some):
+    """The sets that come of these by one column of the set more, above all that they have, by their numbers."""
+    found = []
+    for inner in sets:
+        found.extend([inner | (1 << column) for column in columns_of(some) if (1 << column) > inner])
+    return sorted(found)
 
 
 def sets_within(some):
     """All sets within the set, those with fewer columns first, those with as many by their numbers."""
-    found = [0]
-    for column in columns_of(some):
-        found = found + [inner | (1 << column) for inner in found]
-    return sorted(found, key=place_of)
+    found = []
+    level = [0]
+    while level != []:
+        found.extend(level)
+        level = with_one_more(level, some)
+    return found
 
 
 def turned(some, order):

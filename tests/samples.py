@@ -7,6 +7,8 @@ from splithouse.sets import turned
 
 BIG = 10 ** 60 - 1
 
+LETTERS = "abcdefghijklmnopqrstuvwxyz"
+
 
 def sample_source(seed):
     return random.Random(seed)
@@ -94,6 +96,17 @@ def sample_rules(source, many, most):
     return told
 
 
+def narrow_rules(source, many, count):
+    """So many rules, mostly settling ones, with one up to three columns at the left and one or two at the right."""
+    told = []
+    for turn in range(count):
+        left = source.sample(range(many), min(many, source.randrange(1, 4)))
+        right = source.sample(range(many), min(many, source.randrange(1, 3)))
+        word = source.choice(("settle", "settle", "settle", "deal"))
+        told.append((word, sum(2 ** k for k in left), sum(2 ** k for k in right)))
+    return told
+
+
 def mend(book, rule):
     """The set of rows with one breach of the rule mended: two numbers made one, or the row that is lacking put in."""
     one, other = plain_breaches(book, rule)[0]
@@ -148,3 +161,75 @@ def turned_rules(rules, order):
 
 def sample_order(source, many):
     return source.sample(range(many), many)
+
+
+class PlainUnfolding:
+    """Points 10 and 11 over Python's own sets, in the words of the document."""
+
+    def __init__(self, many, rules, some):
+        rest = set(range(many)) - columns(some)
+        self.rules = [(word, columns(left), columns(right)) for word, left, right in rules]
+        self.fixed, self.blocks, self.steps = columns(some), [rest] if rest else [], []
+
+    def uses(self):
+        for k, (word, left, right) in enumerate(self.rules):
+            for at, block in enumerate(self.blocks):
+                if not left & block and right & block and (word == "settle" or block - right):
+                    yield k, at
+
+    def use(self, k, at):
+        word, left, right = self.rules[k]
+        block = self.blocks[at]
+        self.steps.append((k, sum(2 ** column for column in block)))
+        if word == "settle":
+            self.fixed = self.fixed | (block & right)
+            self.blocks[at:at + 1] = [block - right] if block - right else []
+        else:
+            self.blocks[at:at + 1] = [block & right, block - right]
+
+    def run(self, choose=lambda uses: uses[0]):
+        uses = list(self.uses())
+        while uses:
+            self.use(*choose(uses))
+            uses = list(self.uses())
+        return self
+
+    def state(self):
+        return (sum(2 ** k for k in self.fixed), [sum(2 ** k for k in block) for block in self.blocks])
+
+    def told(self):
+        return self.state() + (self.steps,)
+
+
+def in_order(sets):
+    """Sets in the order of point 2."""
+    return sorted(sets, key=lambda some: (len(columns(some)), some))
+
+
+def plain_sets_within(some):
+    return in_order(inner for inner in range(some + 1) if columns(inner) <= columns(some))
+
+
+def settling(rules):
+    return [rule for rule in rules if rule[0] == "settle"]
+
+
+def told_rule(source, many):
+    """A rule with a column at its right."""
+    word, left, right = sample_rule(source, many)
+    return (word, left, right or 2 ** source.randrange(many))
+
+
+def sample_names(source, many):
+    names = []
+    while len(names) < many:
+        name = "".join(source.choice(LETTERS) for turn in range(source.randrange(1, 9)))
+        if name not in names + ["settle", "deal"]:
+            names.append(name)
+    return names
+
+
+def plain_line(names, rule):
+    """The line of point 29 that tells the rule."""
+    word, left, right = rule
+    return " ".join([names[k] for k in sorted(columns(left))] + [word] + [names[k] for k in sorted(columns(right))])

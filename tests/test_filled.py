@@ -4,7 +4,7 @@ import itertools
 import unittest
 
 from samples import (all_books, all_cuts, columns, keeping_book, plain_alike, plain_keeps, put_again, sample_book,
-                     sample_cut, sample_order, sample_rules, sample_source, turned_rules)
+                     sample_cut, sample_order, sample_rules, sample_source, settling, turned_rules)
 from splithouse.books import keeps, put_together, seen_on
 from splithouse.cuts import cut_in_two
 from splithouse.errors import NoCut, SplitError, TooMany
@@ -14,10 +14,6 @@ from splithouse.sets import turned
 # Five columns, five parts and five rules; its steps are gone through by hand.
 FIVE = (5, [("settle", 1, 4), ("settle", 2, 4), ("settle", 4, 8), ("settle", 24, 4), ("settle", 20, 1)],
         [9, 3, 18, 28, 17])
-
-
-def settling(rules):
-    return [rule for rule in rules if rule[0] == "settle"]
 
 
 def begun(many, parts):

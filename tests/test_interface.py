@@ -4,6 +4,8 @@ import importlib
 import inspect
 import unittest
 
+from splithouse.desk import Desk
+
 ARGUMENTS = {
     "splithouse.sets": {
         "columns_of": ["some"],
@@ -46,6 +48,26 @@ ARGUMENTS = {
         "filled": ["many", "rules", "parts"],
         "is_safe": ["many", "rules", "parts"],
     },
+    "splithouse.forms": {
+        "twice": ["many", "rules", "part"],
+        "cut_tree": ["many", "rules"],
+        "leaves": ["tree"],
+        "grown": ["book", "tree"],
+    },
+    "splithouse.keeping": {
+        "own_rules": ["many", "rules", "part"],
+        "part_by_part": ["many", "rules", "parts", "rule"],
+        "parts_by_cover": ["many", "rules"],
+    },
+    "splithouse.texts": {
+        "read": ["text"],
+        "shown": ["names", "rules"],
+        "show_set": ["names", "some"],
+        "read_set": ["names", "text"],
+    },
+    "splithouse.desk": {
+        "Desk": ["text"],
+    },
 }
 
 
@@ -55,6 +77,11 @@ class Interface(unittest.TestCase):
             for name, arguments in functions.items():
                 told = getattr(importlib.import_module(module), name)
                 self.assertEqual(list(inspect.signature(told).parameters), arguments, name)
+
+    def test_the_desk(self):
+        self.assertTrue(inspect.isclass(Desk))
+        self.assertEqual(list(inspect.signature(Desk("columns a").say).parameters), ["row"])
+        self.assertEqual(Desk(text="columns a").say(row="show"), "columns a")
 
 
 if __name__ == "__main__":

@@ -178,6 +178,52 @@ class Language(unittest.TestCase):
             if isinstance(node.func, ast.Attribute):
                 self.assertIn(node.func.attr, METHODS | own, place)
 
+    def test_own_methods_and_values_are_called_like_none_of_python(self):
+        taken = {name for kind in (str, int, list, tuple, dict, set, bytes) for name in dir(kind)} - {"__init__"}
+        methods = {inner.name for node, place in self.nodes(ast.ClassDef) for inner in node.body
+                   if isinstance(inner, ast.FunctionDef)}
+        values = {node.attr for node, place in self.nodes(ast.Attribute) if isinstance(node.ctx, ast.Store)}
+        self.assertEqual((methods | values) & taken, set())
+        self.assertEqual(methods & values, set())
+        for node, place in self.nodes(ast.Attribute):
+            self.assertIn(node.attr, METHODS | methods | values, place)
+
+    def test_values_are_given_through_a_local_name_alone(self):
+        for node, place in self.nodes(ast.Attribute):
+            if isinstance(node.ctx, ast.Store):
+                self.assertEqual(getattr(node.value, "id", None), "self", place)
+
+    def test_names_of_the_top_are_bound_once(self):
+        for name, tree in self.trees.items():
+            bound = [alias.name for node in tree.body if isinstance(node, ast.ImportFrom) for alias in node.names]
+            bound += [node.name for node in tree.body if isinstance(node, (ast.FunctionDef, ast.ClassDef))]
+            bound += [node.targets[0].id for node in tree.body if isinstance(node, ast.Assign)]
+            self.assertEqual(len(bound), len(set(bound)), name)
+
+    def test_plain_values_at_the_top(self):
+        for name, tree in self.trees.items():
+            for node in tree.body:
+                if isinstance(node, ast.Assign):
+                    self.assertNotIsInstance(ast.literal_eval(node.value), (list, dict, set), name)
+
+    def test_texts(self):
+        for node, place in self.nodes(ast.Constant):
+            if isinstance(node.value, str):
+                self.assertNotIn("%", node.value, place)
+        for node, place in self.nodes(ast.FormattedValue):
+            self.assertIsInstance(node.value, ast.Name, place)
+            self.assertIsNone(node.format_spec, place)
+
+    def test_sets_are_asked_on_the_spot(self):
+        inner = set()
+        for node, place in self.nodes(ast.Call):
+            if isinstance(node.func, ast.Name) and node.func.id in ("sorted", "len"):
+                inner.update(node.args)
+        for node, place in self.nodes(ast.Call):
+            if isinstance(node.func, ast.Name) and node.func.id in ("set", "frozenset"):
+                self.assertIn(node, inner, place)
+        self.assertEqual([place for node, place in self.nodes(ast.Set)], [])
+
     def test_is_stands_beside_none_true_and_false_alone(self):
         for node, place in self.nodes(ast.Compare):
             for op, right in zip(node.ops, node.comparators):

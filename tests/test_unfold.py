@@ -3,7 +3,7 @@
 import itertools
 import unittest
 
-from samples import (columns, keeping_book, plain_alike, plain_book, plain_keeps, plain_mixed, sample_book,
+from samples import (PlainUnfolding, keeping_book, plain_alike, plain_book, plain_keeps, plain_mixed, sample_book,
                      sample_rules, sample_source, set_keeps)
 from splithouse.books import book_of, keeps
 from splithouse.sets import turned
@@ -13,44 +13,6 @@ TWELVE = [("settle", 0b0000011, 0b0000100), ("deal", 0b0000001, 0b0001010), ("se
           ("deal", 0b0000010, 0b1100000), ("settle", 0b0010000, 0b0100001), ("deal", 0, 0b0000111),
           ("settle", 0b1000000, 0b1000000), ("deal", 0b0100000, 0b0011000), ("settle", 0b0000100, 0b0001000),
           ("deal", 0b1111111, 0b0000001), ("settle", 0b1100000, 0), ("deal", 0b0000101, 0b1010101)]
-
-
-class PlainUnfolding:
-    """Points 10 and 11 over Python's own sets, in the words of the document."""
-
-    def __init__(self, many, rules, some):
-        rest = set(range(many)) - columns(some)
-        self.rules = [(word, columns(left), columns(right)) for word, left, right in rules]
-        self.fixed, self.blocks, self.steps = columns(some), [rest] if rest else [], []
-
-    def uses(self):
-        for k, (word, left, right) in enumerate(self.rules):
-            for at, block in enumerate(self.blocks):
-                if not left & block and right & block and (word == "settle" or block - right):
-                    yield k, at
-
-    def use(self, k, at):
-        word, left, right = self.rules[k]
-        block = self.blocks[at]
-        self.steps.append((k, sum(2 ** column for column in block)))
-        if word == "settle":
-            self.fixed = self.fixed | (block & right)
-            self.blocks[at:at + 1] = [block - right] if block - right else []
-        else:
-            self.blocks[at:at + 1] = [block & right, block - right]
-
-    def run(self, choose=lambda uses: uses[0]):
-        uses = list(self.uses())
-        while uses:
-            self.use(*choose(uses))
-            uses = list(self.uses())
-        return self
-
-    def state(self):
-        return (sum(2 ** k for k in self.fixed), [sum(2 ** k for k in block) for block in self.blocks])
-
-    def told(self):
-        return self.state() + (self.steps,)
 
 
 class CanUse(unittest.TestCase):
