@@ -32,7 +32,7 @@ def first_gain(many, rules, parts, some):
 
 def part_by_part(many, rules, parts, rule):
     """The word yes with the gains that show it, or the word no with the set come to."""
-    if parts == [] or len(parts) > MOST_PARTS:
+    if len(parts) == 0 or len(parts) > MOST_PARTS:
         raise TooMany(f"no parts, or more than {MOST_PARTS}")
     reached = rule[1]
     gains = []
